@@ -1,0 +1,1 @@
+"""Lampwatch: lights whose rows of light and dark come round and round."""
