@@ -8,12 +8,18 @@ LONGEST_ROW = 12
 LONGEST_SIGHT = 100
 
 
+def lit_and_dark_alone(text):
+    for sign in text:
+        if sign != LIT and sign != DARK:
+            return False
+    return True
+
+
 def check_light(light):
     if len(light) < 1 or len(light) > LONGEST_ROW:
         raise NoLight("a light has 1 to 12 signs")
-    for sign in light:
-        if sign != LIT and sign != DARK:
-            raise NoLight("a light has the signs o and . alone")
+    if not lit_and_dark_alone(light):
+        raise NoLight("a light has the signs o and . alone")
 
 
 def sign_at(row, moment):

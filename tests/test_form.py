@@ -1,6 +1,7 @@
 """The package's files keep to the small part of the language that the program is written in."""
 
 import ast
+import builtins
 import pathlib
 import re
 import unittest
@@ -56,6 +57,30 @@ def bound_names(tree):
     return names
 
 
+def drawn_modules(tree):
+    return {node.module.rpartition(".")[2] for node in ast.walk(tree) if isinstance(node, ast.ImportFrom)}
+
+
+def local_names(function):
+    """The parameters and locals of a function."""
+    names = {node.arg for node in ast.walk(function) if isinstance(node, ast.arg)}
+    stored = [node for node in ast.walk(function) if isinstance(node, ast.Name) and isinstance(node.ctx, ast.Store)]
+    return names | {node.id for node in stored}
+
+
+def top_names(tree):
+    """The names bound at a file's top, in order."""
+    names = []
+    for node in tree.body:
+        if isinstance(node, (ast.FunctionDef, ast.ClassDef)):
+            names.append(node.name)
+        elif isinstance(node, ast.ImportFrom):
+            names.extend(drawn.asname or drawn.name for drawn in node.names)
+        elif isinstance(node, ast.Assign):
+            names.extend(target.id for target in node.targets)
+    return names
+
+
 class TestForm(unittest.TestCase):
     def test_the_folder_holds_plain_files_alone(self):
         held = [path.name for path in PACKAGE.iterdir() if path.name != "__pycache__"]
@@ -93,6 +118,53 @@ class TestForm(unittest.TestCase):
                 self.assertEqual(node.level, 0, (name, node.lineno))
                 self.assertRegex(node.module, r"\Alampwatch\.[a-z]+\Z", (name, node.lineno))
                 self.assertNotIn("*", [drawn.name for drawn in node.names], (name, node.lineno))
+
+    def test_names_are_drawn_from_the_file_that_defines_them(self):
+        trees = {name[:-3]: ast.parse(text) for name, text in sources().items()}
+        for name, node in nodes():
+            if isinstance(node, ast.ImportFrom):
+                source = trees[node.module.rpartition(".")[2]]
+                defined = top_names(ast.Module([row for row in source.body if not isinstance(row, ast.ImportFrom)], []))
+                for drawn in node.names:
+                    self.assertIn(drawn.name, defined, (name, node.lineno))
+
+    def test_no_two_files_draw_from_one_another(self):
+        left = {name[:-3]: drawn_modules(ast.parse(text)) for name, text in sources().items()}
+        while left:
+            free = [name for name, drawn in left.items() if not drawn & set(left)]
+            self.assertNotEqual(free, [], left)
+            for name in free:
+                left.pop(name)
+
+    def test_each_name_is_bound_once_at_the_top_and_no_local_is_called_like_another_thing(self):
+        for name, text in sources().items():
+            tree = ast.parse(text)
+            top = top_names(tree)
+            self.assertEqual(len(top), len(set(top)), name)
+            for node in ast.walk(tree):
+                if isinstance(node, ast.FunctionDef):
+                    self.assertEqual(local_names(node) & (set(top) | set(dir(builtins))), set(), (name, node.name))
+
+    def test_texts_hold_no_percent_sign_and_no_other_escape(self):
+        for name, node in nodes():
+            if isinstance(node, ast.Constant) and isinstance(node.value, str):
+                self.assertNotIn("%", node.value, (name, node.lineno))
+                self.assertRegex(node.value, r"\A[ -~\n\t]*\Z", (name, node.lineno))
+
+    def test_is_stands_beside_none_true_and_false_alone(self):
+        for name, node in nodes():
+            if isinstance(node, ast.Compare):
+                for sign, right in zip(node.ops, node.comparators):
+                    if isinstance(sign, (ast.Is, ast.IsNot)):
+                        self.assertIsInstance(right, ast.Constant, (name, node.lineno))
+                        self.assertIn(right.value, (None, True, False), (name, node.lineno))
+
+    def test_errors_are_taken_by_the_programs_own_names(self):
+        own = set(top_names(ast.parse(sources()["errors.py"])))
+        for name, node in nodes():
+            if isinstance(node, ast.ExceptHandler):
+                kinds = node.type.elts if isinstance(node.type, ast.Tuple) else [node.type]
+                self.assertLessEqual({kind.id for kind in kinds}, own, (name, node.lineno))
 
     def test_only_listed_names_of_pythons_own_are_used(self):
         for name, text in sources().items():

@@ -5,32 +5,17 @@ import unittest
 from lampwatch import lights
 from lampwatch.errors import NoLight, NoSight, TooLong
 from lampwatch.lights import both, parting, seen, shortest, turn
-from tests.helper import FAR, WRONG_LIGHTS, all_rows, assert_refused, walk
-
-# Point 6 lets two lights of up to 12 signs look alike for fewer than 24 signs only; 60 is well beyond it.
-LONG_ENOUGH = 60
-
-
-def plain_parting(one, moment, other, other_moment):
-    for long in range(LONG_ENOUGH + 1):
-        if walk(one, moment, long) != walk(other, other_moment, long):
-            return long
-    return None
-
-
-def plain_turn(one, other):
-    for moment in range(LONG_ENOUGH):
-        if walk(one, moment, LONG_ENOUGH) == walk(other, 0, LONG_ENOUGH):
-            return moment
-    return None
-
-
-def plain_shortest(signs):
-    """The shortest beginning that, coming round and round, shows all the signs."""
-    for size in range(1, len(signs) + 1):
-        if walk(signs[:size], 0, len(signs)) == signs:
-            return signs[:size]
-    return signs
+from tests.helper import (
+    FAR,
+    WRONG_LIGHTS,
+    all_rows,
+    assert_keeps_nothing,
+    assert_refused,
+    plain_parting,
+    plain_shortest,
+    plain_turn,
+    walk,
+)
 
 
 def plain_both(one, other):
@@ -401,13 +386,7 @@ class TestNothingKept(unittest.TestCase):
 
     def test_the_module_holds_nothing_that_could_keep(self):
         self.ask_all()
-        for name, value in vars(lights).items():
-            if not name.startswith("__"):
-                with self.subTest(name=name):
-                    self.assertTrue(inspect.isfunction(value) or inspect.isclass(value) or type(value) in (int, str))
-                    if inspect.isfunction(value):
-                        self.assertEqual(vars(value), {})
-                        self.assertIsNone(value.__defaults__)
+        assert_keeps_nothing(self, lights)
 
 
 if __name__ == "__main__":
